@@ -1,0 +1,66 @@
+"""The interface of the document: names, arguments, and the files in which they are defined."""
+
+import unittest
+from importlib import import_module
+from inspect import isclass, isgeneratorfunction, signature
+
+FUNCTIONS = {
+    "wholes": ["is_sequence(thing)", "is_whole(thing, low=None, high=None)"],
+    "lots": [
+        "check_stands(v)", "all_stands(v)", "check_lot(v, lot)", "check_lots(v, lots)", "lot_of(stands)",
+        "stands_of(lot)", "size_of(lot)", "is_within(one, other)", "lot_text(lot)"],
+    "glasses": ["check_member(glasses, lot)"],
+    "families": [
+        "made_glasses(v, lots)", "needed_members(glasses)", "all_glasses(v)", "glasses_number(v)"],
+    "rows": [
+        "check_row(stands, row)", "check_rows(stands, rows)", "next_lot(row, lot)", "back_lot(row, lot)",
+        "test_row(stands, lot)", "joined_row(one, other)", "behind_row(one, other)"],
+}
+
+GENERATORS = ["all_glasses"]
+
+CLASSES = {
+    "glasses": {
+        "Glasses": ["__init__(self, stands, members)", "rounded(self, lot)", "__contains__(self, thing)",
+                    "__len__(self)", "__eq__(self, other)"]},
+}
+
+PROPERTIES = {("glasses", "Glasses"): ["every", "least"]}
+
+
+class Interface(unittest.TestCase):
+    def test_functions_stand_in_their_files(self):
+        for name, told in FUNCTIONS.items():
+            module = import_module(f"truealarms.{name}")
+            for line in told:
+                function = getattr(module, line.partition("(")[0])
+                self.assertEqual(function.__name__ + str(signature(function)), line)
+                self.assertEqual(function.__module__, f"truealarms.{name}")
+
+    def test_generators(self):
+        for name, told in FUNCTIONS.items():
+            module = import_module(f"truealarms.{name}")
+            for line in told:
+                word = line.partition("(")[0]
+                self.assertIs(isgeneratorfunction(getattr(module, word)), word in GENERATORS, word)
+
+    def test_classes_and_their_own_methods(self):
+        for name, told in CLASSES.items():
+            module = import_module(f"truealarms.{name}")
+            for word, methods in told.items():
+                kind = getattr(module, word)
+                self.assertTrue(isclass(kind))
+                self.assertEqual(kind.__module__, f"truealarms.{name}")
+                for line in methods:
+                    method = vars(kind)[line.partition("(")[0]]
+                    self.assertEqual(method.__name__ + str(signature(method)), line)
+
+    def test_properties(self):
+        for (name, word), told in PROPERTIES.items():
+            kind = getattr(import_module(f"truealarms.{name}"), word)
+            for attribute in told:
+                self.assertIsInstance(vars(kind)[attribute], property)
+
+
+if __name__ == "__main__":
+    unittest.main()

@@ -1,0 +1,1 @@
+"""truealarms: which alarms of an analyser are true."""
