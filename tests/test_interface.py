@@ -15,14 +15,26 @@ FUNCTIONS = {
     "rows": [
         "check_row(stands, row)", "check_rows(stands, rows)", "next_lot(row, lot)", "back_lot(row, lot)",
         "test_row(stands, lot)", "joined_row(one, other)", "behind_row(one, other)"],
+    "programs": ["check_program(steps, program)", "steps_in(program)", "program_size(program)"],
+    "trueends": [
+        "true_end(steps, program, lot)", "true_run(steps, program, lot)", "meaning_row(steps, program)",
+        "unlike_stand(steps, one, other)", "same_ends(steps, one, other)"],
+    "ways": ["way_to(steps, program, lot, stand)", "way_fault(steps, program, lot, stand, way)"],
+    "lottext": ["glasses_text(glasses)", "read_glasses(text)"],
+    "programtext": ["program_text(program)", "read_program(text)"],
 }
 
-GENERATORS = ["all_glasses"]
+GENERATORS = ["all_glasses", "true_run"]
 
 CLASSES = {
     "glasses": {
         "Glasses": ["__init__(self, stands, members)", "rounded(self, lot)", "__contains__(self, thing)",
                     "__len__(self)", "__eq__(self, other)"]},
+    "steps": {
+        "Steps": ["__init__(self, stands, entries)", "row_of(self, name)", "with_row(self, name, row)",
+                  "__contains__(self, name)", "__eq__(self, other)"]},
+    "trueends": {"Met": ["__init__(self, path, name, lot)"]},
+    "ways": {"Way": ["__init__(self, start, names, stands)"]},
 }
 
 PROPERTIES = {("glasses", "Glasses"): ["every", "least"]}
