@@ -99,7 +99,8 @@ class Read(unittest.TestCase):
 
     def test_names(self):
         self.assertEqual(read_program("abcdefgh"), ("step", "abcdefgh"))
-        self.assertEqual(read_program("z"), ("step", "z"))
+        for letter in "abcdefghijklmnopqrstuvwxyz":
+            self.assertEqual(read_program(letter), ("step", letter))
         self.assertEqual(read_program("nothings; nothin; nothing"),
                          behind(behind(("step", "nothings"), ("step", "nothin")), NOTHING))
         self.assertEqual(read_program("step | behind"), either(("step", "step"), ("step", "behind")))

@@ -31,8 +31,8 @@ def _met_above(members, lot, every):
 def needed_members(glasses):
     """The members, other than ALL, that are not the common part of the members above them."""
     members = glasses.members
-    every = glasses.every
-    return tuple([lot for lot in members if lot != every and _met_above(members, lot, every) != lot])
+    # Above ALL there is no member, so ALL itself is what its members above meet in.
+    return tuple([lot for lot in members if _met_above(members, lot, glasses.every) != lot])
 
 
 def _all_members(v):
