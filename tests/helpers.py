@@ -2,6 +2,10 @@
 
 from itertools import product
 
+from truealarms.errors import BadLot, BadProgram, BadRow, UnlikeStands
+from truealarms.families import all_glasses, made_glasses
+from truealarms.steps import Steps
+
 # None of these is a whole number, a lot, a stand or a number of stands.
 NO_WHOLES = (True, False, None, "1", "", -1, 10 ** 30, 1.0, [1], (1,), {}, b"1")
 
@@ -95,3 +99,86 @@ def end_by_rounds(rows, program, lot):
         rounds.append(rounds[-1] | end_by_rounds(rows, program[1], rounds[-1]))
         if rounds[-1] == rounds[-2]:
             return rounds[-1]
+
+
+def every_glasses(stands):
+    """All glasses of one to three stands; of more stands a few, of many forms."""
+    if stands <= 3:
+        return list(all_glasses(stands))
+    every = (1 << stands) - 1
+    lots = [(37 * k + 11) & every for k in range(1, 9)]
+    few = [lot for lot in range(every) if bin(lot).count("1") <= 1]
+    chain = [(1 << k) - 1 for k in range(stands)]
+    given = [[], [0], lots[:3], lots[2:6], lots, few, chain, [1, 3], range(every), [every >> 1, every - 1]]
+    return [made_glasses(stands, list(some)) for some in given]
+
+
+def some_steps(stands):
+    """A few steps with the names f and g."""
+    rows = some_rows(stands)
+    return [Steps(stands, [("f", rows[k]), ("g", rows[(5 * k + 3) % len(rows)])]) for k in range(len(rows))]
+
+
+def lots_within(lot):
+    return [other for other in range(lot + 1) if other & ~lot == 0]
+
+
+def seen_by_document(glasses, rows, program, member):
+    """The seen end from a member, as the document tells it; rows is a dict by name."""
+    if program[0] == "step":
+        return glasses.rounded(end_by_rounds(rows, program, member))
+    if program[0] == "nothing":
+        return member
+    if program[0] == "again":
+        closed = [other for other in glasses.members if member & ~other == 0
+                  and seen_by_document(glasses, rows, program[1], other) & ~other == 0]
+        assert all(closed[0] & ~other == 0 for other in closed)
+        return closed[0]
+    left = seen_by_document(glasses, rows, program[1], member)
+    if program[0] == "behind":
+        return seen_by_document(glasses, rows, program[2], left)
+    return glasses.rounded(left | seen_by_document(glasses, rows, program[2], member))
+
+
+def check_start_errors(case, call, *rest):
+    """Check the order of errors of a function of glasses, steps, a program and a lot; rest stays as it is."""
+    check_program_errors(case, call, None, *rest)
+    three, steps = made_glasses(3, [1]), Steps(3, [("f", (2, 4, 4))])
+    for lot in NO_WHOLES + (8,):
+        case.assertEqual(error_of(call, three, steps, ("step", "f"), lot, *rest), (BadLot, ()), lot)
+
+
+def check_program_errors(case, call, *rest):
+    """Check the order of errors of a function of glasses, steps and a program; rest stays as it is."""
+    two, three = made_glasses(2, []), made_glasses(3, [1])
+    steps = Steps(3, [("f", (2, 4, 4))])
+    for program in (None, ["step", "f"], ("step", "g"), ("step", "f")):
+        case.assertEqual(error_of(call, two, steps, program, *rest), (UnlikeStands, ()))
+        case.assertEqual(error_of(call, three, Steps(2, []), program, *rest), (UnlikeStands, ()))
+    for program, what in (
+            (None, "kind"), (["step", "f"], "kind"), (("step", "g"), "name"), (("again", ["nothing"]), "kind"),
+            (nested(lambda inner: ("again", inner), 5), "again"),
+            (nested(lambda inner: ("behind", inner, ("nothing",)), 12), "deep")):
+        case.assertEqual(error_of(call, three, steps, program, *rest), (BadProgram, (what,)))
+
+
+def check_row_errors(case, call, *rest):
+    """Check what a function of glasses and a row raises for rows; rest stays as it is."""
+    glasses = made_glasses(3, [1])
+    for row in NO_SEQUENCES + ([], [1, 1], (1, 1), (1, 1, 1, 1)):
+        case.assertEqual(error_of(call, glasses, row, *rest), (BadRow, (None,)), row)
+    for lot in NO_WHOLES + (8,):
+        for kind in (list, tuple):
+            case.assertEqual(error_of(call, glasses, kind([0, lot, lot]), *rest), (BadRow, (1,)), lot)
+
+
+def check_result(case, kind, names):
+    """Check that a result keeps the very things that it is given, under these names."""
+    things = [[name] for name in names]
+    result = kind(*things)
+    case.assertEqual(list(vars(result)), names)
+    for name, thing in zip(names, things):
+        case.assertIs(getattr(result, name), thing)
+    case.assertEqual(vars(kind(**dict(zip(names, things)))), dict(zip(names, things)))
+    case.assertNotIsInstance(result, tuple)
+    case.assertFalse(result == kind(*things))

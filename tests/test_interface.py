@@ -20,11 +20,26 @@ FUNCTIONS = {
         "true_end(steps, program, lot)", "true_run(steps, program, lot)", "meaning_row(steps, program)",
         "unlike_stand(steps, one, other)", "same_ends(steps, one, other)"],
     "ways": ["way_to(steps, program, lot, stand)", "way_fault(steps, program, lot, stand, way)"],
+    "seenends": [
+        "check_alike(one, other)", "seen_end(glasses, steps, program, lot)", "seen_table(glasses, steps, program)",
+        "seen_gap(glasses, steps, program, lot)", "is_finer(one, other)"],
+    "seenlogs": ["rounds_of(glasses, steps, program, lot)", "seen_run(glasses, steps, program, lot)"],
+    "fences": [
+        "find_fences(glasses, steps, program, lot)", "fences_fault(glasses, steps, program, lot, wish, fences)"],
+    "sharpness": [
+        "sharp_at(glasses, row, lot)", "blurring_lot(glasses, row, lot)", "unsharp_member(glasses, row)",
+        "sharp_steps(glasses, steps)", "blurred_lots(glasses, row)", "greatest_blurred(glasses, row)",
+        "least_sharp(glasses, row, lot)"],
+    "cores": ["sharp_core(glasses, row)", "core_fault(glasses, row, core)"],
+    "everystep": ["step_kinds()", "kinds_of_row(stands, row)", "every_step_sharp(glasses, kind)"],
+    "exactness": [
+        "exact_at(glasses, steps, program, lot)", "first_inexact(glasses, steps, program)",
+        "exactness_word(glasses, steps, program, lot)", "all_exact(glasses, steps)"],
     "lottext": ["glasses_text(glasses)", "read_glasses(text)"],
     "programtext": ["program_text(program)", "read_program(text)"],
 }
 
-GENERATORS = ["all_glasses", "true_run"]
+GENERATORS = ["all_glasses", "true_run", "seen_run"]
 
 CLASSES = {
     "glasses": {
@@ -35,6 +50,11 @@ CLASSES = {
                   "__contains__(self, name)", "__eq__(self, other)"]},
     "trueends": {"Met": ["__init__(self, path, name, lot)"]},
     "ways": {"Way": ["__init__(self, start, names, stands)"]},
+    "seenlogs": {"Seen": ["__init__(self, path, name, lot, after)"]},
+    "sharpness": {"Unsharp": ["__init__(self, member, back)"]},
+    "cores": {"Core": ["__init__(self, row, cuts)"]},
+    "everystep": {"UnsharpRow": ["__init__(self, row, member, back)"]},
+    "exactness": {"Misled": ["__init__(self, name, lot, wish)"]},
 }
 
 PROPERTIES = {("glasses", "Glasses"): ["every", "least"]}

@@ -3,7 +3,7 @@
 import unittest
 from inspect import isgeneratorfunction
 
-from helpers import NO_WHOLES, end_by_rounds, error_of, programs_of, some_rows
+from helpers import NO_WHOLES, end_by_rounds, error_of, programs_of, some_steps
 from truealarms.errors import BadLot, BadProgram
 from truealarms.rows import next_lot
 from truealarms.steps import Steps
@@ -43,11 +43,6 @@ def run_by_document(rows, program, lot):
         if grown == lot:
             return told
         lot, number = grown, number + 1
-
-
-def some_steps(stands):
-    rows = some_rows(stands)
-    return [Steps(stands, [("f", rows[k]), ("g", rows[(5 * k + 3) % len(rows)])]) for k in range(len(rows))]
 
 
 class Ends(unittest.TestCase):

@@ -70,6 +70,16 @@ def is_within(one, other):
     return _any_lot(one) & ~_any_lot(other) == 0
 
 
+def least_of(lots):
+    """Those of some lots that hold no other one of them, in their order."""
+    return tuple([lot for lot in lots if not any([other != lot and other & ~lot == 0 for other in lots])])
+
+
+def greatest_of(lots):
+    """Those of some lots that are within no other one of them, in their order."""
+    return tuple([lot for lot in lots if not any([other != lot and lot & ~other == 0 for other in lots])])
+
+
 def lot_text(lot):
     """The stands of a lot in braces, for people to read."""
     return "{" + ", ".join([str(stand) for stand in stands_of(lot)]) + "}"

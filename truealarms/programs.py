@@ -50,7 +50,7 @@ def check_program(steps, program):
     return program
 
 
-def _nodes_of(program):
+def nodes_of(program):
     """All nodes of a program, in reading order."""
     nodes = []
     waiting = [program]
@@ -63,9 +63,9 @@ def _nodes_of(program):
 
 def steps_in(program):
     """The names of the steps in a program, ascending."""
-    return tuple(sorted(set([node[1] for node in _nodes_of(program) if node[0] == "step"])))
+    return tuple(sorted(set([node[1] for node in nodes_of(program) if node[0] == "step"])))
 
 
 def program_size(program):
     """How many nodes a program has."""
-    return len(_nodes_of(program))
+    return len(nodes_of(program))

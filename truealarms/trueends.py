@@ -3,6 +3,7 @@
 from truealarms.lots import check_lot
 from truealarms.programs import check_program
 from truealarms.rows import behind_row, joined_row, next_lot
+from truealarms.runs import steps_met
 
 
 class Met:
@@ -52,40 +53,14 @@ def true_end(steps, program, lot):
     return next_lot(_row_of_program(steps, program), lot)
 
 
-def _run_again(steps, program, path, lot, met):
-    number = 0
-    reached = lot
-    while True:
-        grown = reached | _run(steps, program[1], path + (number,), reached, met)
-        if grown == reached:
-            return reached
-        reached = grown
-        number += 1
-
-
-def _run(steps, program, path, lot, met):
-    """Put the steps that are met behind those met so far, and return the true end."""
-    shape = program[0]
-    if shape == "step":
-        met.append(Met(path, program[1], lot))
-        return next_lot(steps.row_of(program[1]), lot)
-    if shape == "nothing":
-        return lot
-    if shape == "again":
-        return _run_again(steps, program, path, lot, met)
-    left = _run(steps, program[1], path + (0,), lot, met)
-    if shape == "behind":
-        return _run(steps, program[2], path + (1,), left, met)
-    return left | _run(steps, program[2], path + (1,), lot, met)
-
-
 def true_run(steps, program, lot):
     """The steps that the true run meets, in its order."""
     check_program(steps, program)
     check_lot(steps.stands, lot)
-    met = []
-    _run(steps, program, (), lot, met)
-    yield from met
+    # What a true run comes to is left as it is.
+    rounding = tuple(range(1 << steps.stands))
+    for path, name, place, _ in steps_met(steps, rounding, program, lot):
+        yield Met(path, name, place)
 
 
 def meaning_row(steps, program):
