@@ -35,11 +35,30 @@ FUNCTIONS = {
     "exactness": [
         "exact_at(glasses, steps, program, lot)", "first_inexact(glasses, steps, program)",
         "exactness_word(glasses, steps, program, lot)", "all_exact(glasses, steps)"],
+    "lines": [
+        "rule_names()", "lines_fault(glasses, steps, lines)", "rule_counts(lines)",
+        "wish_by_line(glasses, line, wish)", "grown_lines(glasses, steps, lines, start, end)",
+        "joined_lines(glasses, steps, how, one, other)", "lean_lines(glasses, steps, lines)"],
+    "findinglines": [
+        "true_lines(steps, program, lot)", "find_lines(glasses, steps, program, lot)",
+        "has_line(glasses, steps, program, lot, end)", "least_ends(glasses, steps, program, lot)",
+        "least_starts(glasses, steps, program, lot)", "starts_with_line(glasses, steps, program)"],
+    "alarms": [
+        "alarm_of(glasses, steps, program, lot, wish)", "false_wishes(glasses, steps, program, lot)",
+        "starts_exact(glasses, steps, program)"],
+    "blurs": [
+        "all_blurs(glasses, steps, program, lot)", "first_blur(glasses, steps, program, lot)",
+        "start_within(glasses, steps, program, lot)"],
+    "mends": [
+        "mended_glasses(glasses, lot)", "single_mends(glasses, steps, program, lot)",
+        "greatest_mends(glasses, steps, program, lot)", "fewest_added(glasses, steps, program, lot)",
+        "mended_run(glasses, steps, program, lot)"],
+    "fusing": ["fused_steps(steps, one, other, new, manner='behind')", "split_by(steps, program, one, other)"],
     "lottext": ["glasses_text(glasses)", "read_glasses(text)"],
     "programtext": ["program_text(program)", "read_program(text)"],
 }
 
-GENERATORS = ["all_glasses", "true_run", "seen_run"]
+GENERATORS = ["all_glasses", "true_run", "seen_run", "all_blurs"]
 
 CLASSES = {
     "glasses": {
@@ -54,6 +73,8 @@ CLASSES = {
     "sharpness": {"Unsharp": ["__init__(self, member, back)"]},
     "cores": {"Core": ["__init__(self, row, cuts)"]},
     "everystep": {"UnsharpRow": ["__init__(self, row, member, back)"]},
+    "blurs": {"Blur": ["__init__(self, path, name, lot, true_next, seen_next, mend)"]},
+    "mends": {"MendedRun": ["__init__(self, glasses, blurs)"]},
     "exactness": {"Misled": ["__init__(self, name, lot, wish)"]},
 }
 
