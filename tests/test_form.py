@@ -1,6 +1,7 @@
 """The form of the package's files, as far as it is plain to see: sizes, signs, imports and words."""
 
 import ast
+import builtins
 import re
 import unittest
 from pathlib import Path
@@ -55,6 +56,24 @@ class Form(unittest.TestCase):
             for node in ast.walk(ast.parse(path.read_text())):
                 for word in (getattr(node, "id", None), getattr(node, "arg", None), getattr(node, "attr", None)):
                     self.assertNotIn(word, SHUT_OUT, path.name)
+
+    def test_no_name_of_a_file_is_bound_again(self):
+        for path in FILES:
+            tree = ast.parse(path.read_text())
+            bound = set(dir(builtins))
+            for node in tree.body:
+                if isinstance(node, (ast.FunctionDef, ast.ClassDef)):
+                    bound.add(node.name)
+                if isinstance(node, ast.Assign):
+                    bound.update([target.id for target in node.targets])
+                if isinstance(node, ast.ImportFrom):
+                    bound.update([alias.name for alias in node.names])
+            for node in ast.walk(tree):
+                if isinstance(node, ast.FunctionDef):
+                    names = [inner.id for inner in ast.walk(node)
+                             if isinstance(inner, ast.Name) and isinstance(inner.ctx, ast.Store)]
+                    names += [argument.arg for argument in node.args.args]
+                    self.assertEqual(bound.intersection(names), set(), f"{path.name}: {node.name}")
 
     def test_no_floats_and_no_division(self):
         for path in FILES:

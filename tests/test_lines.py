@@ -340,6 +340,12 @@ class Leaning(unittest.TestCase):
         self.assertEqual(lean_lines(WIDE, RIVER, lines[:1]), ALL_RULES[:1])
         self.assertEqual(lines, list(ALL_RULES[:9]))
 
+    def test_a_chain_and_a_line_twice(self):
+        chain = ((7, F, 6, "step", ()),) + tuple([(7, F, 2, "grow", (k,)) for k in range(5)])
+        self.assertEqual(lean_lines(NARROW, RIVER, chain), chain)
+        moved = (chain[0], chain[0]) + tuple([(7, F, 2, "grow", (k + 1,)) for k in range(5)])
+        self.assertEqual(lean_lines(NARROW, RIVER, moved), chain)
+
     def test_needed_lines_of_each_prefix(self):
         for many in range(1, 10):
             lean = lean_lines(WIDE, RIVER, ALL_RULES[:many])

@@ -153,6 +153,8 @@ class FewestAdded(unittest.TestCase):
     def test_two_lots_and_none(self):
         steps = Steps(3, [("f", (2, 5, 2)), ("g", (2, 4, 1))])
         self.assertEqual(fewest_added(NARROW, steps, LONG, 1), (2, 5))
+        steps = Steps(4, [("f", (14, 15, 2, 2)), ("g", (4, 2, 4, 0))])
+        self.assertEqual(fewest_added(Glasses(4, (0, 2, 15)), steps, ("behind", G, F), 5), (4, 5))
         steps = Steps(4, [("f", (1, 4, 1, 2)), ("g", (0, 10, 1, 7))])
         self.assertIsNone(fewest_added(Glasses(4, (14, 15)), steps, LONG, 13))
 

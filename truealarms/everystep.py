@@ -42,9 +42,10 @@ def kinds_of_row(stands, row):
 
 
 def _can_have(kind, member, back):
-    """Whether some step of the kind has this back lot of a member that is not ALL."""
+    """Whether some step of the kind has this back lot, no member, of a member that is not ALL."""
     if kind in ("going", "single"):
-        return member != 0 or back == 0
+        # No such step leads into 0 from anywhere; so 0 itself, a member, is its back lot.
+        return member != 0
     if kind == "exchange":
         return size_of(member) == size_of(back)
     if kind == "test":
@@ -63,16 +64,6 @@ def _exchange_row(stands, member, back):
     return tuple([1 << ended[stand] for stand in range(stands)])
 
 
-def _lots_within_and_out(kind, member, out):
-    """Where stands of the back lot lead, and where others do, for the kinds that do not mind which."""
-    if kind == "any":
-        return (0, out)
-    if kind == "single":
-        # The negative of a number has just its lowest bit in common with it.
-        return (member & -member, out & -out)
-    return (member, out)
-
-
 def _row_with_back(stands, kind, member, back):
     """A row of the kind that has this back lot of the member."""
     every = (1 << stands) - 1
@@ -82,9 +73,10 @@ def _row_with_back(stands, kind, member, back):
         return test_row(stands, every & ~back | member)
     if kind == "growing":
         return tuple([1 << stand if back >> stand & 1 else every for stand in range(stands)])
-    if kind == "same":
-        return (every,) * stands
-    within, out = _lots_within_and_out(kind, member, every & ~member)
+    within, out = member, every & ~member
+    if kind == "single":
+        # The negative of a number has just its lowest bit in common with it.
+        within, out = within & -within, out & -out
     return tuple([within if back >> stand & 1 else out for stand in range(stands)])
 
 
