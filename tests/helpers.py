@@ -1,6 +1,7 @@
 """What several tests need: ways to catch errors, and things to try."""
 
 from itertools import product
+from random import Random
 
 from truealarms.errors import BadLot, BadProgram, BadRow, UnlikeStands
 from truealarms.families import all_glasses, made_glasses
@@ -117,6 +118,63 @@ def some_steps(stands):
     """A few steps with the names f and g."""
     rows = some_rows(stands)
     return [Steps(stands, [("f", rows[k]), ("g", rows[(5 * k + 3) % len(rows)])]) for k in range(len(rows))]
+
+
+def drawn_row(draw, stands):
+    """A row of one of several kinds, drawn from a random source."""
+    every = (1 << stands) - 1
+    kind = draw.randrange(4)
+    if kind == 0:
+        return tuple([draw.randint(0, every) for _ in range(stands)])
+    if kind == 1:
+        return tuple([1 << draw.randrange(stands) for _ in range(stands)])
+    if kind == 2:
+        return tuple([draw.choice((0, 1 << s, 1 << draw.randrange(stands), every)) for s in range(stands)])
+    return tuple([1 << draw.randrange(stands) | 1 << draw.randrange(stands) for _ in range(stands)])
+
+
+def drawn_steps(draw, stands, names=("f", "g")):
+    return Steps(stands, [(name, drawn_row(draw, stands)) for name in names])
+
+
+def drawn_glasses(draw, stands):
+    return made_glasses(stands, [draw.randrange(1 << stands) for _ in range(draw.randrange(2 + 2 * stands))])
+
+
+def drawn_program(draw, size, names=("f", "g"), agains=2):
+    """A program of at most so many nodes, with at most so many agains one within another."""
+    if size <= 1 or draw.randrange(6) == 0:
+        return draw.choice([("step", name) for name in names] * 3 + [("nothing",)])
+    shape = draw.choice(("again", "behind", "behind", "either"))
+    if shape == "again" or size == 2:
+        if not agains:
+            return drawn_program(draw, size - 1, names, agains)
+        return ("again", drawn_program(draw, size - 1, names, agains - 1))
+    left = draw.randrange(1, size - 1)
+    return (shape, *[drawn_program(draw, part, names, agains) for part in (left, size - 1 - left)])
+
+
+def fits(glasses, facts):
+    """Whether glasses round each lot as the facts say."""
+    return all(glasses.rounded(lot) == told for lot, told in facts)
+
+
+def drawn_facts(draw, stands):
+    """Facts of some glasses, with a few that may be changed."""
+    glasses = draw.choice(every_glasses(stands)) if stands <= 3 else drawn_glasses(draw, stands)
+    facts = []
+    for _ in range(draw.randrange(6)):
+        lot = draw.randrange(1 << stands)
+        facts.append((lot, glasses.rounded(lot)))
+    if facts and draw.randrange(3) == 0:
+        facts[draw.randrange(len(facts))] = (draw.randrange(1 << stands), draw.randrange(1 << stands))
+    return facts
+
+
+def some_facts(stands, many):
+    """So many sequences of drawn facts, and a few others."""
+    draw = Random(100 + stands)
+    return [[], [(0, 0)], [((1 << stands) - 1,) * 2]] + [drawn_facts(draw, stands) for _ in range(many)]
 
 
 def lots_within(lot):

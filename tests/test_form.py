@@ -51,6 +51,30 @@ class Form(unittest.TestCase):
                         self.assertIn(alias.name, defined, stem)
                         self.assertIsNone(alias.asname)
 
+    def test_imports_are_used_and_lead_to_no_cycle(self):
+        sources = {}
+        for path in FILES:
+            tree = ast.parse(path.read_text())
+            imports = [node for node in tree.body if isinstance(node, ast.ImportFrom)]
+            sources[path.stem] = {node.module.partition(".")[2] for node in imports}
+            used = {node.id for node in ast.walk(tree) if isinstance(node, ast.Name)}
+            for alias in [alias for node in imports for alias in node.names]:
+                self.assertIn(alias.name, used, path.name)
+        while sources:
+            free = [stem for stem in sources if not sources[stem] & set(sources)]
+            self.assertNotEqual(free, [], sources)
+            sources = {stem: sources[stem] for stem in sources if stem not in free}
+
+    def test_no_name_is_a_method_and_an_attribute(self):
+        methods, attributes = set(), set()
+        for path in FILES:
+            for node in ast.walk(ast.parse(path.read_text())):
+                if isinstance(node, ast.ClassDef):
+                    methods.update([inner.name for inner in node.body if isinstance(inner, ast.FunctionDef)])
+                if isinstance(node, ast.Attribute) and isinstance(node.ctx, ast.Store):
+                    attributes.add(node.attr)
+        self.assertEqual(methods & attributes, set())
+
     def test_words_that_are_not_used(self):
         for path in FILES:
             for node in ast.walk(ast.parse(path.read_text())):
@@ -72,7 +96,7 @@ class Form(unittest.TestCase):
                 if isinstance(node, ast.FunctionDef):
                     names = [inner.id for inner in ast.walk(node)
                              if isinstance(inner, ast.Name) and isinstance(inner.ctx, ast.Store)]
-                    names += [argument.arg for argument in node.args.args]
+                    names += [argument.arg for argument in node.args.args + node.args.kwonlyargs]
                     self.assertEqual(bound.intersection(names), set(), f"{path.name}: {node.name}")
 
     def test_no_floats_and_no_division(self):

@@ -54,11 +54,23 @@ FUNCTIONS = {
         "greatest_mends(glasses, steps, program, lot)", "fewest_added(glasses, steps, program, lot)",
         "mended_run(glasses, steps, program, lot)"],
     "fusing": ["fused_steps(steps, one, other, new, manner='behind')", "split_by(steps, program, one, other)"],
+    "rewritings": [
+        "rewriting_names()", "verdict_of(name)", "letters_of(name)", "rewriting_pair(name, programs)",
+        "spots_of(program)", "part_at(program, spot)", "moves_in(program, *, names=None)",
+        "rewritten_at(program, spot, name)", "rewritten_by(program, moves)"],
+    "counters": ["counter_of(name)", "ungathered_pair(glasses)", "counter_in(glasses)", "fusing_counter(glasses)"],
+    "sharpening": ["sharpest_found(glasses, steps, program, lot, names, most)"],
+    "besides": ["both_glasses(one, other)", "common_glasses(one, other)"],
+    "refining": [
+        "sharp_refinement(glasses, steps)", "refined_fault(glasses, steps, refined)", "sharp_part(glasses, steps)"],
+    "parting": [
+        "check_cells(v, cells)", "cells_of(glasses)", "glasses_of_cells(v, cells)", "even_glasses(glasses)",
+        "even_refinement(glasses, steps)", "cells_refined(cells, steps)", "parted_fault(cells, steps, parted)"],
     "lottext": ["glasses_text(glasses)", "read_glasses(text)"],
     "programtext": ["program_text(program)", "read_program(text)"],
 }
 
-GENERATORS = ["all_glasses", "true_run", "seen_run", "all_blurs"]
+GENERATORS = ["all_glasses", "true_run", "seen_run", "all_blurs", "spots_of", "moves_in"]
 
 CLASSES = {
     "glasses": {
@@ -76,6 +88,10 @@ CLASSES = {
     "blurs": {"Blur": ["__init__(self, path, name, lot, true_next, seen_next, mend)"]},
     "mends": {"MendedRun": ["__init__(self, glasses, blurs)"]},
     "exactness": {"Misled": ["__init__(self, name, lot, wish)"]},
+    "counters": {"Counter": ["__init__(self, glasses, steps, programs, start)"]},
+    "sharpening": {"Sharpest": ["__init__(self, moves, program, seen)"]},
+    "refining": {"Refined": ["__init__(self, glasses, reasons)"], "SharpPart": ["__init__(self, glasses, lost)"]},
+    "parting": {"Parted": ["__init__(self, cells, reasons)"]},
 }
 
 PROPERTIES = {("glasses", "Glasses"): ["every", "least"]}

@@ -3,10 +3,10 @@
 A line is a tuple (start, program, end, how, uppers); its uppers are the numbers of earlier lines.
 """
 
-from truealarms.errors import BadLines, BadProgram, NotLet
+from truealarms.errors import BadLines, NotLet
 from truealarms.glasses import check_member
 from truealarms.lots import check_lot, is_within
-from truealarms.programs import check_program
+from truealarms.programs import is_program
 from truealarms.rows import next_lot
 from truealarms.seenends import check_alike
 from truealarms.sharpness import sharp_at
@@ -21,14 +21,6 @@ JOINING_RULES = ("behind", "either", "more")
 def rule_names():
     """The words of the seven rules, in their order."""
     return RULES
-
-
-def _is_program(steps, thing):
-    try:
-        check_program(steps, thing)
-    except BadProgram:
-        return False
-    return True
 
 
 def _asked_programs(how, program):
@@ -112,7 +104,7 @@ def _line_fault(glasses, steps, lines, number):
     if not _is_line(glasses, line):
         return "line"
     program, how = line[1], line[3]
-    if not _is_program(steps, program):
+    if not is_program(steps, program):
         return "program"
     if how not in RULES or how != "grow" and program[0] != SHAPES_MADE.get(how, how):
         return "how"
@@ -185,7 +177,7 @@ def joined_lines(glasses, steps, how, one, other):
     _check_lines(glasses, steps, other)
     first, second = one[-1], other[-1]
     program = _joined_program(how, first[1], second[1])
-    if how == "more" and program != ("again", first[1]) or not _is_program(steps, program):
+    if how == "more" and program != ("again", first[1]) or not is_program(steps, program):
         raise NotLet("program")
     if second[0] != _due_start(how, first):
         raise NotLet("lot")

@@ -16,7 +16,7 @@ def _has_shape(thing):
     return SHAPES.get(thing[0]) == len(thing)
 
 
-def _inner_programs(node):
+def inner_programs(node):
     """The programs that a node is built of, the left one first."""
     return () if node[0] == "step" else node[1:]
 
@@ -45,9 +45,18 @@ def check_program(steps, program):
         _check_node(steps, node, agains)
         within = agains + 1 if node[0] == "again" else agains
         # The last one put in is taken first: so all in the left one comes ahead of the right one.
-        for inner in _inner_programs(node)[::-1]:
+        for inner in inner_programs(node)[::-1]:
             waiting.append((inner, deep + 1, within))
     return program
+
+
+def is_program(steps, thing):
+    """Whether a thing of any kind is a program over the steps."""
+    try:
+        check_program(steps, thing)
+    except BadProgram:
+        return False
+    return True
 
 
 def nodes_of(program):
@@ -57,7 +66,7 @@ def nodes_of(program):
     while waiting:
         node = waiting.pop()
         nodes.append(node)
-        waiting.extend(_inner_programs(node)[::-1])
+        waiting.extend(inner_programs(node)[::-1])
     return nodes
 
 
