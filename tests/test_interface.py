@@ -66,6 +66,21 @@ FUNCTIONS = {
     "parting": [
         "check_cells(v, cells)", "cells_of(glasses)", "glasses_of_cells(v, cells)", "even_glasses(glasses)",
         "even_refinement(glasses, steps)", "cells_refined(cells, steps)", "parted_fault(cells, steps, parted)"],
+    "names": [
+        "project_lot(pair, lot, which)", "box_of(pair, one, other)", "boxed_lot(pair, lot)", "is_box(pair, lot)",
+        "side_row(pair, which, row)", "cross_row(pair, which, table)"],
+    "apartness": [
+        "apart_glasses(one, other)", "related_lots(pair, glasses)", "finest_apart(pair, glasses)",
+        "side_sharp(one, other, which, row)"],
+    "shadows": ["side_steps(pair, one, other)", "shadow_program(steps, program, kept)"],
+    "factsback": [
+        "check_facts(stands, facts)", "is_fitting(glasses, facts)", "misfit_of(stands, facts)",
+        "finest_glasses(stands, facts)", "coarsest_glasses(stands, facts)", "count_fitting(stands, facts)",
+        "next_ask(stands, facts)", "shows_surely(stands, facts, lot)", "telling_facts(glasses)"],
+    "sharpfacts": ["sharp_fitting(steps, facts)"],
+    "edits": [
+        "apply_edits(glasses, steps, edits)", "find_mends(glasses, steps, pool, demands)",
+        "mends_fault(glasses, steps, pool, demands, picks)"],
     "lottext": ["glasses_text(glasses)", "read_glasses(text)"],
     "programtext": ["program_text(program)", "read_program(text)"],
 }
@@ -92,9 +107,16 @@ CLASSES = {
     "sharpening": {"Sharpest": ["__init__(self, moves, program, seen)"]},
     "refining": {"Refined": ["__init__(self, glasses, reasons)"], "SharpPart": ["__init__(self, glasses, lost)"]},
     "parting": {"Parted": ["__init__(self, cells, reasons)"]},
+    "names": {"Pair": ["__init__(self, first, second)", "__eq__(self, other)"]},
+    "factsback": {"Misfit": ["__init__(self, place, other)"]},
+    "sharpfacts": {"Between": ["__init__(self, coarsest, finest)"]},
+    "bench": {
+        "Bench": ["__init__(self, glasses, steps)", "change(self, edit)", "take_back(self)",
+                  "verdict(self, program, lot, wish)", "trial(self, edits, program, lot, wish)"]},
 }
 
-PROPERTIES = {("glasses", "Glasses"): ["every", "least"]}
+PROPERTIES = {("glasses", "Glasses"): ["every", "least"],
+              ("bench", "Bench"): ["present_glasses", "present_steps", "log"]}
 
 
 class Interface(unittest.TestCase):

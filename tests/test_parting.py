@@ -212,8 +212,8 @@ class Refined(unittest.TestCase):
         for stands in (1, 2, 3, 4):
             families = partings(stands)
             for cells in families:
-                rows = [Steps(stands, [("f", row)]) for row in some_rows(stands)]
-                for steps in rows + some_steps(stands)[::3] + [drawn_steps(draw, stands, ("f", "g", "h")), Steps(stands, [])]:
+                some = [Steps(stands, [("f", row)]) for row in some_rows(stands)] + some_steps(stands)[::3]
+                for steps in some + [drawn_steps(draw, stands, ("f", "g", "h")), Steps(stands, [])]:
                     parted = self.check_refined(cells, steps, families)
                     counts.add((len(cells), len(parted.cells)))
         self.assertGreater(len(counts), 9)
@@ -290,7 +290,8 @@ class Fault(unittest.TestCase):
     def test_pair(self):
         self.check_at_each_place([
             (one, other, name, 9, 9) for name in ("", "f", "none")
-            for one, other in ((1, 0), (0, 0), (2, 2), (0, 3), (-1, 0), (-1, 2), (2, 10 ** 30), (3, 4), (2, 1))], "pair")
+            for one, other in (
+                (1, 0), (0, 0), (2, 2), (0, 3), (-1, 0), (-1, 2), (2, 10 ** 30), (3, 4), (2, 1))], "pair")
         for name in ("", "f", "none"):
             self.assertEqual(self.fault(self.REASONS[:1] + ((0, 2, name, 9, 9),)), (1, "pair"))
             self.assertEqual(self.fault(self.REASONS + ((0, 1, name, 0, 1),)), (3, "pair"))

@@ -173,8 +173,9 @@ class Fault(unittest.TestCase):
 
     def test_form(self):
         first, second, _ = self.REASONS
-        for wrong in (None, [12, "back", "f", 8], (12, "back", "f"), (12, "back", "f", 8, 8), (), "back", 12,
-                      (12, "Back", "f", 8), (12, None, "f", 8), ("back", 12, "f", 8), (12, "", "f", 8), (12, 12, "f", 8)):
+        for wrong in (
+                None, [12, "back", "f", 8], (12, "back", "f"), (12, "back", "f", 8, 8), (), "back", 12,
+                (12, "Back", "f", 8), (12, None, "f", 8), ("back", 12, "f", 8), (12, "", "f", 8), (12, 12, "f", 8)):
             self.assertEqual(self.fault((wrong, None)), (0, "form"), wrong)
             self.assertEqual(self.fault((first, wrong)), (1, "form"), wrong)
             self.assertEqual(self.fault((first, second, wrong)), (2, "form"), wrong)

@@ -96,7 +96,8 @@ class Found(unittest.TestCase):
     def test_several_moves(self):
         program = ("again", ("behind", F, ("behind", STAY, ("behind", STAY, STAY))))
         longest = 0
-        for names in (["drop_last", "drop_first", "unroll"], ["unroll"], ["drop_last", "bracket_behind", "halve_again"]):
+        for names in (
+                ["drop_last", "drop_first", "unroll"], ["unroll"], ["drop_last", "bracket_behind", "halve_again"]):
             for most in range(4):
                 found = self.check_found(WIDE, RIVER, program, 1, names, most)
                 longest = max(longest, len(found.moves))
@@ -178,7 +179,8 @@ class TooManyTried(unittest.TestCase):
             program = read_program(text)
             fewest = tried_by_document(self.STEPS, program, names, 3)
             self.assertEqual(len(fewest), tried)
-            last = {rewritten_at(one, *move) for one in fewest if fewest[one] < 3 for move in moves_in(one, names=names)}
+            moved = [one for one in fewest if fewest[one] < 3]
+            last = {rewritten_at(one, *move) for one in moved for move in moves_in(one, names=names)}
             self.assertEqual(len(last | set(fewest)), up)
             due = (TooMany, (200,)) if tried > 200 else None
             self.assertEqual(error_of(sharpest_found, WIDE, self.STEPS, program, 1, names, 3), due, text)
